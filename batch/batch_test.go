@@ -418,6 +418,28 @@ func TestEachBitMatters(t *testing.T) {
 	}
 }
 
+// resummed is the bytes with a sum that is right.
+func resummed(s string) string {
+	b := []byte(s)
+	binary.BigEndian.PutUint32(b[17:], crc32.Checksum(b[21:], crc32.MakeTable(crc32.Castagnoli)))
+	return string(b)
+}
+
+// P11.2, P11.3: bytes that are changed anywhere are refused, or just those of what is read.
+func TestOneSpelling(t *testing.T) {
+	for _, x := range mays() {
+		for i := range len(x.s) {
+			for c := range 256 {
+				s := resummed(x.s[:i] + string([]byte{byte(c)}) + x.s[i+1:])
+				b, e := batch.Decode(s)
+				if back, f := batch.Encode(b); e == api.OK && (back != s || f != api.OK) {
+					t.Errorf("Decode of %q: %v, whose bytes are %q, %v", s, b, back, f)
+				}
+			}
+		}
+	}
+}
+
 // P11.2
 func TestAll(t *testing.T) {
 	if s, e := batch.All(); s != "" || e != api.OK {

@@ -76,7 +76,7 @@ func TestPutFixedOfWrongOnes(t *testing.T) {
 		{wrong, 1, api.ErrLength}, {wrong, 2, api.ErrLength}, {wrong, 4, api.ErrLength},
 		{blob.Of(long), 2, api.ErrRange}, {blob.Of(long[:128]), 1, api.ErrRange},
 		{blob.Of("a"), 0, api.ErrRange}, {blob.None(), 0, api.ErrRange}, {blob.None(), 9, api.ErrRange}, {blob.Of(""), -1, api.ErrRange},
-		{wrong, 0, api.ErrRange}, {wrong, 9, api.ErrRange}, {blob.Of("a"), math.MaxInt, api.ErrRange}, {blob.Of("a"), math.MinInt, api.ErrRange},
+		{blob.Of("a"), math.MaxInt, api.ErrRange}, {blob.Of("a"), math.MinInt, api.ErrRange},
 	} {
 		s, e := written(func(out *output.Output) { blob.PutFixed(out, x.b, x.size) })
 		if s != "" || e != x.e {

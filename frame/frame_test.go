@@ -222,6 +222,22 @@ func TestDecodeOfWrongBytes(t *testing.T) {
 	}
 }
 
+// P21.1, P21.2: bytes that are changed anywhere are refused, or just those of what is read.
+func TestOneSpelling(t *testing.T) {
+	for _, x := range rows() {
+		s := sized(x.s)
+		for i := range len(s) {
+			for c := range 256 {
+				changed := s[:i] + string([]byte{byte(c)}) + s[i+1:]
+				f, e := frame.Decode(changed)
+				if back, g := frame.Encode(f); e == api.OK && (back != changed || g != api.OK) {
+					t.Errorf("Decode of %q: %v, whose bytes are %q, %v", changed, f, back, g)
+				}
+			}
+		}
+	}
+}
+
 // P1, P2: once something went wrong, nothing is read; what is handed in isn't changed, what is answered is new memory.
 func TestMemory(t *testing.T) {
 	for i, x := range rows() {

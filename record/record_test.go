@@ -165,6 +165,30 @@ func TestDecodeOfWrongBytes(t *testing.T) {
 	}
 }
 
+// P7.2, P7.3: bytes that are changed anywhere are refused, or just those of what is read.
+func TestOneSpelling(t *testing.T) {
+	check := func(s string) {
+		r, e := record.Decode(s)
+		if e != api.OK {
+			return
+		}
+		if back, e := record.Encode(r); back != s || e != api.OK {
+			t.Errorf("Decode of %q: %v, whose bytes are %q, %v", s, r, back, e)
+		}
+	}
+	for _, x := range rows() {
+		for i := range len(x.s) {
+			for c := range 256 {
+				check(x.s[:i] + string([]byte{byte(c)}) + x.s[i+1:])
+			}
+			for _, c := range []string{"\x00", "\x01", "\x02", "\x80", "\xFF"} {
+				check(sized(x.s[1:max(i, 1)] + c + x.s[max(i, 1):]))
+				check(sized(x.s[1:max(i, 1)] + x.s[max(i, 2):]))
+			}
+		}
+	}
+}
+
 // P7.1
 func TestSame(t *testing.T) {
 	full := func() api.Record {

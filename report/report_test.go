@@ -54,7 +54,7 @@ func TestChunks(t *testing.T) {
 		{"abcdef", []int{1, 2}, []string{"a", "bc", "def"}},
 		{"abcdef", []int{0, 2, 0}, []string{"", "ab", "", "cdef"}},
 		{"abcdef", []int{-1, 2, math.MinInt}, []string{"", "ab", "", "cdef"}},
-		{"abcdef", []int{4, 2}, []string{"abcd", "ef", ""}},
+		{"abcdef", []int{4, 2}, []string{"abcd", "ef", ""}}, // of which the last one is all that are left: none
 		{"abcdef", []int{4, 3, 1}, []string{"abcd", "ef", "", ""}},
 		{"abcdef", []int{math.MaxInt, 5}, []string{"abcdef", "", ""}},
 		{"", []int{1, -1}, []string{"", "", ""}},

@@ -93,8 +93,8 @@ func feed(t *testing.T, chunks ...string) {
 			t.Errorf("Close of %.60q: %v, not %v", chunks, e, wrong)
 		}
 	}
-	more := bytesOf(1)
-	if l, e := s.Feed(more); wrong != api.OK && (len(l) != 0 || e != wrong || s.Held() != held || s.Many() != had) || wrong == api.OK && (len(l) != 1 || e != api.OK || s.Many() != had+1) {
+	l, e := s.Feed(bytesOf(1))
+	if wrong != api.OK && (len(l) != 0 || e != wrong || s.Many() != had) || wrong == api.OK && (len(l) != 1 || e != api.OK || s.Many() != had+1) {
 		t.Errorf("Feed behind Close of %.60q: %v, %v", chunks, l, e)
 	}
 }

@@ -287,6 +287,22 @@ func TestDecodeOfWrongBytes(t *testing.T) {
 	}
 }
 
+// P14.3: bytes that are changed anywhere are refused, or just those of what is read.
+func TestOneSpelling(t *testing.T) {
+	first, _ := value.Encode(empty())
+	for _, s := range []string{first, ongoingBytes} {
+		for i := range len(s) {
+			for c := range 256 {
+				changed := s[:i] + string([]byte{byte(c)}) + s[i+1:]
+				v, e := value.Decode(changed)
+				if back, f := value.Encode(v); e == api.OK && (back != changed || f != api.OK) {
+					t.Errorf("Decode of %q: %v, whose bytes are %q, %v", changed, v, back, f)
+				}
+			}
+		}
+	}
+}
+
 // P14.4
 func TestSame(t *testing.T) {
 	if !value.Same(ongoing(), ongoing()) || !value.SameTopics(ongoing().Topics, ongoing().Topics) || !value.SameTopics(nil, []api.Topic{}) ||
