@@ -47,13 +47,14 @@ func TestWriteAndRead(t *testing.T) {
 	for _, x := range rows() {
 		var out output.Output
 		out.Byte('<')
-		kept := slices.Clone(x.l)
-		header.Write(&out, x.l...)
+		roomy := append(make([]api.Header, 0, len(x.l)+2), x.l...)
+		header.Write(&out, roomy...)
+		header.Find(roomy, "a")
 		if s, e := out.Text(); s != "<"+x.s || e != api.OK {
 			t.Errorf("Write of %v: %q, %v", x.l, s, e)
 		}
-		if !slices.Equal(kept, x.l) {
-			t.Errorf("Write changed %v into %v", kept, x.l)
+		if !slices.Equal(roomy, x.l) || roomy[:len(x.l)+1][len(x.l)] != (api.Header{}) {
+			t.Errorf("%v was changed into %v", x.l, roomy)
 		}
 		in := input.New(x.s + "zzz")
 		if l := header.Read(in); !slices.Equal(l, x.l) || in.At() != len(x.s) || in.Err() != api.OK {
